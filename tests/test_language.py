@@ -1,0 +1,126 @@
+"""Those rules of the language that can be read off the files of the package."""
+
+import ast
+import builtins
+import pathlib
+import re
+import unittest
+
+PACKAGE = pathlib.Path(__file__).resolve().parent.parent / "roamlook"
+BARRED_WORDS = (
+    "type", "typing", "typing_extensions", "enum", "Enum", "IntEnum", "StrEnum", "Flag", "IntFlag", "Generic",
+    "Protocol", "ABC", "ABCMeta", "namedtuple", "NamedTuple", "TypedDict", "TYPE_CHECKING", "abstractmethod",
+)
+LET_BUILTINS = (
+    "len", "range", "enumerate", "zip", "min", "max", "sum", "abs", "sorted", "reversed", "int", "str", "bool",
+    "list", "tuple", "dict", "set", "isinstance", "ord", "repr", "any", "all", "divmod", "iter", "next", "super",
+)
+DOUBLE_METHODS = ("__init__", "__eq__", "__repr__", "__str__", "__len__")
+AT_ONCE = ("range", "zip", "enumerate", "reversed")
+OVER_LISTS = ("any", "all", "min", "max", "sum", "sorted")
+
+
+def files():
+    return sorted(path for path in PACKAGE.rglob("*") if "__pycache__" not in path.parts)
+
+
+def nodes(kinds):
+    for path in files():
+        for node in ast.walk(ast.parse(path.read_text())):
+            if isinstance(node, kinds):
+                yield path.name, node
+
+
+def classes():
+    return [node for name, node in nodes(ast.ClassDef)]
+
+
+def own_attributes():
+    return {
+        node.attr for name, node in nodes(ast.Attribute)
+        if isinstance(node.ctx, ast.Store) and isinstance(node.value, ast.Name)
+    }
+
+
+class Files(unittest.TestCase):
+    def test_only_plain_files(self):
+        for path in files():
+            self.assertRegex(path.name, r"\A([a-z][a-z0-9_]*|__init__)\.py\Z")
+            self.assertEqual(path.parent, PACKAGE)
+
+    def test_signs_and_sizes(self):
+        for path in files():
+            text = path.read_text()
+            self.assertRegex(text, r"\A[\n -~]*\Z", path.name)
+            self.assertNotIn("%", text, path.name)
+            self.assertLessEqual(len(text.splitlines()), 400, path.name)
+            self.assertLessEqual(max(len(line) for line in text.splitlines()), 120, path.name)
+
+    def test_barred_words(self):
+        for path in files():
+            for word in BARRED_WORDS:
+                self.assertIsNone(re.search(rf"\b{word}\b", path.read_text()), (path.name, word))
+
+    def test_functions_are_short(self):
+        for name, node in nodes(ast.FunctionDef):
+            self.assertLessEqual(node.end_lineno - node.lineno + 1, 40, (name, node.name))
+
+
+class Rules(unittest.TestCase):
+    def test_imports_are_of_the_package_alone(self):
+        for name, node in nodes(ast.Import):
+            self.fail(name)
+        for name, node in nodes(ast.ImportFrom):
+            self.assertEqual(node.level, 0)
+            self.assertTrue(node.module.startswith("roamlook."), (name, node.module))
+            self.assertNotIn("*", [alias.name for alias in node.names])
+
+    def test_no_barred_parts(self):
+        for name, node in nodes((ast.Global, ast.Div, ast.AsyncFunctionDef, ast.Await)):
+            self.fail((name, node))
+
+    def test_lists_in_place_of_generators(self):
+        for name, node in nodes(ast.Call):
+            if isinstance(node.func, ast.Name) and node.func.id in OVER_LISTS:
+                self.assertFalse([arg for arg in node.args if isinstance(arg, ast.GeneratorExp)], (name, node.lineno))
+
+    def test_no_floats(self):
+        for name, node in nodes(ast.Constant):
+            self.assertNotIsInstance(node.value, float, name)
+
+    def test_is_stands_beside_none_alone(self):
+        for name, node in nodes(ast.Compare):
+            for sign, side in zip(node.ops, node.comparators):
+                if isinstance(sign, (ast.Is, ast.IsNot)):
+                    self.assertIn(getattr(side, "value", 0), (None, True, False), (name, node.lineno))
+
+    def test_builtins_called(self):
+        for name, node in nodes(ast.Call):
+            if isinstance(node.func, ast.Name) and node.func.id in dir(builtins):
+                self.assertIn(node.func.id, LET_BUILTINS, (name, node.lineno))
+
+    def test_iterated_at_once(self):
+        for name, node in nodes(ast.Assign):
+            if isinstance(node.value, ast.Call) and isinstance(node.value.func, ast.Name):
+                self.assertNotIn(node.value.func.id, AT_ONCE, (name, node.lineno))
+
+    def test_plain_names(self):
+        for name, node in nodes((ast.FunctionDef, ast.ClassDef)):
+            self.assertTrue(node.name in DOUBLE_METHODS or not node.name.startswith("_"), (name, node.name))
+        for name, node in nodes(ast.Name):
+            self.assertFalse(node.id.startswith("_"), (name, node.lineno))
+
+    def test_no_name_of_a_builtin_is_bound(self):
+        for name, node in nodes(ast.Name):
+            if isinstance(node.ctx, ast.Store):
+                self.assertNotIn(node.id, dir(builtins), (name, node.lineno))
+        for name, node in nodes(ast.arg):
+            self.assertNotIn(node.arg, dir(builtins), (name, node.lineno))
+
+    def test_no_name_is_a_method_and_an_attribute(self):
+        methods = {row.name for node in classes() for row in node.body if isinstance(row, ast.FunctionDef)}
+        self.assertEqual(methods & own_attributes(), set())
+
+
+if __name__ == "__main__":
+    unittest.main()
