@@ -5,10 +5,15 @@ from roamlook.errors import BadLot, BadMany, BadOrder, BadText, BadWay, NoPlace
 MOST_PLACES = 8
 
 
+def is_number(thing):
+    """Tell whether a thing is a number."""
+    # To Python True and False are integers, to the document they are no numbers.
+    return isinstance(thing, int) and not isinstance(thing, bool)
+
+
 def is_between(thing, least, most):
     """Tell whether a thing is a number from least to most."""
-    # To Python True and False are integers, to the document they are no numbers.
-    return isinstance(thing, int) and not isinstance(thing, bool) and least <= thing <= most
+    return is_number(thing) and least <= thing <= most
 
 
 def is_lot(board, lot):

@@ -42,6 +42,20 @@ def own_attributes():
     }
 
 
+def top_names(path):
+    """The names that a file itself binds at module level, but for imports."""
+    names = set()
+    for row in ast.parse(path.read_text()).body:
+        if isinstance(row, (ast.FunctionDef, ast.ClassDef)):
+            names.add(row.name)
+        if isinstance(row, ast.Assign):
+            names.update(target.id for target in row.targets)
+    return names
+
+
+METHOD_NAMES = {row.name for node in classes() for row in node.body if isinstance(row, ast.FunctionDef)}
+
+
 class Files(unittest.TestCase):
     def test_only_plain_files(self):
         for path in files():
@@ -116,6 +130,38 @@ class Rules(unittest.TestCase):
                 self.assertNotIn(node.id, dir(builtins), (name, node.lineno))
         for name, node in nodes(ast.arg):
             self.assertNotIn(node.arg, dir(builtins), (name, node.lineno))
+
+    def test_no_local_has_the_name_of_a_class_or_an_import(self):
+        for path in files():
+            tree = ast.parse(path.read_text())
+            taken = {alias.name for node in ast.walk(tree) if isinstance(node, ast.ImportFrom) for alias in node.names}
+            taken |= {node.name for node in ast.walk(tree) if isinstance(node, ast.ClassDef)}
+            bound = {node.id for node in ast.walk(tree) if isinstance(node, ast.Name) and isinstance(node.ctx, ast.Store)}
+            bound |= {node.arg for node in ast.walk(tree) if isinstance(node, ast.arg)}
+            bound |= {node.name for node in ast.walk(tree) if isinstance(node, ast.FunctionDef)} - METHOD_NAMES
+            self.assertEqual(bound & taken, set(), path.name)
+
+    def test_what_is_imported_is_defined_there_and_used(self):
+        for path in files():
+            tree = ast.parse(path.read_text())
+            used = {node.id for node in ast.walk(tree) if isinstance(node, ast.Name)}
+            for node in ast.walk(tree):
+                if isinstance(node, ast.ImportFrom):
+                    there = top_names(PACKAGE / (node.module.split(".")[1] + ".py"))
+                    for alias in node.names:
+                        self.assertIn(alias.name, there, path.name)
+                        self.assertIn(alias.name, used, path.name)
+
+    def test_no_two_files_import_from_each_other(self):
+        leads = {path.stem: set() for path in files()}
+        for name, node in nodes(ast.ImportFrom):
+            leads[name[:-3]].add(node.module.split(".")[1])
+        for start in leads:
+            reached, edge = set(), set(leads[start])
+            while edge:
+                reached |= edge
+                edge = {end for one in edge for end in leads[one]} - reached
+            self.assertNotIn(start, reached)
 
     def test_no_name_is_a_method_and_an_attribute(self):
         methods = {row.name for node in classes() for row in node.body if isinstance(row, ast.FunctionDef)}

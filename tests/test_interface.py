@@ -1,0 +1,65 @@
+"""Names, arguments and defaults as the interface tells them."""
+
+import importlib
+import inspect
+import unittest
+
+SIGNATURES = {
+    "boards": {"read_board": "(text)"},
+    "paces": {
+        "even": "(board, number)", "step": "(board, pace, lot)", "before": "(board, pace, lot)",
+        "least_pace": "(board, steps)", "ahead": "(board, lot, paces)",
+    },
+    "looks": {
+        "answers": "(board, look)", "lot_of": "(board, look, answer)", "look_text": "(look)", "read_look": "(text)",
+    },
+    "stories": {
+        "look_story": "(board, story)", "last_beat": "(story)", "forth": "(board, story)", "back": "(board, story)",
+        "known": "(board, story)",
+    },
+    "walks": {
+        "fits": "(board, story, walk)", "many_walks": "(board, story)", "walk_at": "(board, story, *, number=0)",
+        "number_of": "(board, story, walk)", "walk_by": "(board, story, beat, place)",
+    },
+}
+CLASSES = {
+    ("boards", "Board"): {
+        "__init__": "(self, many, ways=())", "ways": "(self)", "onward": "(self, place)", "far": "(self, one, other)",
+        "within": "(self, place, most)", "turned": "(self)", "renamed": "(self, order)",
+        "__eq__": "(self, other)", "__len__": "(self)", "__str__": "(self)", "__repr__": "(self)",
+    },
+}
+VALUES = {
+    "boards": {"MOST_PLACES": 8},
+    "paces": {"MOST_PACE": 7, "MOST_BEATS": 12},
+}
+
+
+def module(name):
+    return importlib.import_module(f"roamlook.{name}")
+
+
+class Interface(unittest.TestCase):
+    def test_functions(self):
+        for file, functions in SIGNATURES.items():
+            for name, told in functions.items():
+                function = getattr(module(file), name)
+                self.assertEqual(str(inspect.signature(function)), told, name)
+                self.assertEqual(function.__module__, f"roamlook.{file}")
+
+    def test_methods_stand_in_their_class(self):
+        for (file, name), methods in CLASSES.items():
+            found = vars(getattr(module(file), name))
+            for method, told in methods.items():
+                self.assertIn(method, found)
+                self.assertEqual(str(inspect.signature(found[method])), told, (name, method))
+
+    def test_values(self):
+        for file, values in VALUES.items():
+            for name, worth in values.items():
+                self.assertIs(type(getattr(module(file), name)), int)
+                self.assertEqual(getattr(module(file), name), worth)
+
+
+if __name__ == "__main__":
+    unittest.main()
