@@ -21,6 +21,12 @@ SIGNATURES = {
         "fits": "(board, story, walk)", "many_walks": "(board, story)", "walk_at": "(board, story, *, number=0)",
         "number_of": "(board, story, walk)", "walk_by": "(board, story, beat, place)",
     },
+    "papers": {"paper": "(board, story, beat, place)", "holds": "(board, story, beat, place, paper)"},
+    "wrongs": {
+        "fewest_wrong": "(board, story)", "table": "(board, story, count)",
+        "table_holds": "(board, story, count, rows)",
+    },
+    "worth": {"worth_alike": "(board, story, seen)", "needless": "(board, story)", "bare": "(board, story)"},
 }
 CLASSES = {
     ("boards", "Board"): {
@@ -28,10 +34,17 @@ CLASSES = {
         "within": "(self, place, most)", "turned": "(self)", "renamed": "(self, order)",
         "__eq__": "(self, other)", "__len__": "(self)", "__str__": "(self)", "__repr__": "(self)",
     },
+    ("games", "Game"): {
+        "__init__": "(self, board, pace, hands, *, wish=1)", "turns": "(self)", "lasting": "(self, lot, *, turn=0)",
+        "keeps": "(self, lot, beats, *, turn=0)", "price": "(self, lot, beats, *, turn=0)",
+        "book": "(self, lot, *, turn=0)", "answerer": "(self, lot, beats, *, turn=0)",
+    },
 }
 VALUES = {
     "boards": {"MOST_PLACES": 8},
     "paces": {"MOST_PACE": 7, "MOST_BEATS": 12},
+    "wrongs": {"MOST_SEEN": 24},
+    "games": {"MOST_GAME": 20},
 }
 
 
