@@ -187,6 +187,10 @@ class Holding(unittest.TestCase):
         board, story = Board(2, [(0, 1)]), ((0,), ((1, 1),), ())
         for told in (("walk", [(0,), (0, 1)]), ("ahead", (0, 1)), ("behind", (0,)), ("ahead", ()), ("walk", [])):
             self.assertIs(holds(board, story, 1, 0, told), False)
+        lots = [(0,), (0,)]
+        staying = ((0,), ((0, 0),), ())
+        self.assertIs(holds(board, staying, 1, 1, ("ahead", lots)), True)
+        self.assertIs(holds(board, staying, 1, 1, ("beside", lots)), False)
 
 
 class Refusals(unittest.TestCase):
