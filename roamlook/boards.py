@@ -31,6 +31,17 @@ def check_lot(board, lot):
         raise BadLot()
 
 
+def is_filled_lot(board, lot):
+    """Tell whether a thing is a lot of the board that isn't empty."""
+    return is_lot(board, lot) and len(lot) > 0
+
+
+def check_filled_lot(board, lot):
+    """Refuse what is no lot of the board, and the empty one."""
+    if not is_filled_lot(board, lot):
+        raise BadLot()
+
+
 def rising_ways(many, ways):
     """Tell the pairs in their order; refuse the first that is no way, or stood already."""
     seen = set()

@@ -1,7 +1,7 @@
 """Games: which look next keeps a wish, for how long, at what price, and who shows it."""
 
-from roamlook.boards import MOST_PLACES, is_between, is_lot
-from roamlook.errors import BadBeat, BadHands, BadLot, BadWish, NoHand
+from roamlook.boards import MOST_PLACES, check_filled_lot, is_between
+from roamlook.errors import BadBeat, BadHands, BadWish, NoHand
 from roamlook.looks import answers, is_look
 from roamlook.paces import check_pace
 
@@ -135,8 +135,7 @@ class Game:
 
     def check_lot(self, lot):
         """Refuse a lot on which no game is played."""
-        if not is_lot(self.ground, lot) or len(lot) == 0:
-            raise BadLot()
+        check_filled_lot(self.ground, lot)
 
     def check_turn(self, turn):
         """Refuse the turn of a hand that isn't there."""

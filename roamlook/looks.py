@@ -1,6 +1,6 @@
 """Looks: what is asked of the place where a thing is, the answers, and how looks are written."""
 
-from roamlook.boards import MOST_PLACES, Board, is_between, is_lot
+from roamlook.boards import MOST_PLACES, Board, is_between, is_filled_lot, is_lot
 from roamlook.errors import BadLook, BadText
 from roamlook.texts import FIGURES, lot_text, read_lot
 
@@ -11,7 +11,7 @@ def are_parts(board, lots):
     """Tell whether a thing is a tuple of lots, none empty, that have together each place just once."""
     if not isinstance(lots, tuple):
         return False
-    if not all([is_lot(board, lot) and len(lot) > 0 for lot in lots]):
+    if not all([is_filled_lot(board, lot) for lot in lots]):
         return False
     return sorted([place for lot in lots for place in lot]) == list(range(len(board)))
 

@@ -1,6 +1,6 @@
 """Stories: where a thing begins, how it moves, what was seen of it, and where it may be at each beat."""
 
-from roamlook.boards import is_between, is_lot, is_number
+from roamlook.boards import is_between, is_filled_lot, is_number
 from roamlook.errors import BadBeat, BadStory
 from roamlook.looks import is_look, lot_of
 from roamlook.paces import MOST_BEATS, before, is_pace, step
@@ -33,7 +33,7 @@ def are_triples(board, last, seen):
 def look_story(board, story):
     """Refuse the first of the three parts that is wrong for the board."""
     lot, paces, seen = story
-    if not is_lot(board, lot) or len(lot) == 0:
+    if not is_filled_lot(board, lot):
         raise BadStory(0)
     if not are_paces(board, paces):
         raise BadStory(1)

@@ -27,6 +27,10 @@ SIGNATURES = {
         "table_holds": "(board, story, count, rows)",
     },
     "worth": {"worth_alike": "(board, story, seen)", "needless": "(board, story)", "bare": "(board, story)"},
+    "books": {
+        "book_holds": "(game, lot, rows, *, turn=0)", "answerer_holds": "(game, lot, beats, rows, *, turn=0)",
+        "follow": "(game, lot, rows, answers, *, turn=0)",
+    },
 }
 CLASSES = {
     ("boards", "Board"): {
@@ -39,12 +43,22 @@ CLASSES = {
         "keeps": "(self, lot, beats, *, turn=0)", "price": "(self, lot, beats, *, turn=0)",
         "book": "(self, lot, *, turn=0)", "answerer": "(self, lot, beats, *, turn=0)",
     },
+    ("talks", "Talk"): {
+        "__init__": "(self, delays, looks)", "hands": "(self)", "looks": "(self)", "letters": "(self)",
+        "comes": "(self, letter)", "heard": "(self, hand, beat, *, lost=())",
+    },
+    ("worlds", "Worlds"): {
+        "__init__": "(self, board, lot, paces, talk, *, lost=1)", "worlds": "(self)",
+        "alike": "(self, hand, beat, world)", "so": "(self, beat, world, saying)",
+        "other": "(self, hand, beat, world, saying)", "__len__": "(self)",
+    },
 }
 VALUES = {
     "boards": {"MOST_PLACES": 8},
     "paces": {"MOST_PACE": 7, "MOST_BEATS": 12},
     "wrongs": {"MOST_SEEN": 24},
     "games": {"MOST_GAME": 20},
+    "worlds": {"MOST_WORLDS": 3000},
 }
 
 

@@ -15,6 +15,17 @@ LET_BUILTINS = (
     "len", "range", "enumerate", "zip", "min", "max", "sum", "abs", "sorted", "reversed", "int", "str", "bool",
     "list", "tuple", "dict", "set", "isinstance", "ord", "repr", "any", "all", "divmod", "iter", "next", "super",
 )
+LET_METHODS = (
+    "append", "clear", "copy", "count", "endswith", "extend", "find", "get", "index", "insert", "isalnum", "isalpha",
+    "isdigit", "islower", "isspace", "isupper", "items", "join", "keys", "ljust", "lower", "lstrip", "partition",
+    "pop", "remove", "replace", "reverse", "rfind", "rjust", "rpartition", "rsplit", "rstrip", "setdefault", "split",
+    "splitlines", "startswith", "strip", "update", "upper", "values", "zfill", "isascii", "add", "discard",
+)
+BARRED_ATTRIBUTES = (
+    "items", "keys", "values", "pop", "update", "append", "clear", "extend", "insert", "remove", "reverse",
+    "setdefault", "sort", "args", "encode", "decode", "hex", "fromhex", "format", "mro", "register", "elements",
+    "open", "input",
+)
 DOUBLE_METHODS = ("__init__", "__eq__", "__repr__", "__str__", "__len__")
 AT_ONCE = ("range", "zip", "enumerate", "reversed")
 OVER_LISTS = ("any", "all", "min", "max", "sum", "sorted")
@@ -162,6 +173,53 @@ class Rules(unittest.TestCase):
                 reached |= edge
                 edge = {end for one in edge for end in leads[one]} - reached
             self.assertNotIn(start, reached)
+
+    def test_methods_that_are_called(self):
+        for name, node in nodes(ast.Call):
+            if isinstance(node.func, ast.Attribute) and node.func.attr not in ("__init__", "__name__"):
+                self.assertIn(node.func.attr, set(LET_METHODS) | METHOD_NAMES, (name, node.lineno))
+
+    def test_attributes_that_are_read_are_assigned(self):
+        for path in files():
+            tree = ast.parse(path.read_text())
+            called = {id(node.func) for node in ast.walk(tree) if isinstance(node, ast.Call)}
+            for node in ast.walk(tree):
+                if isinstance(node, ast.Attribute) and isinstance(node.ctx, ast.Load) and id(node) not in called:
+                    self.assertIn(node.attr, own_attributes(), (path.name, node.lineno))
+
+    def test_barred_attributes(self):
+        self.assertEqual(own_attributes() & set(BARRED_ATTRIBUTES), set())
+
+    def test_bare_stars_stand_in_methods_of_own_names_alone(self):
+        for name, node in nodes(ast.FunctionDef):
+            if node.args.kwonlyargs:
+                self.assertNotIn(node.name, LET_METHODS, name)
+
+    def test_sets_are_not_iterated(self):
+        for name, node in nodes((ast.For, ast.comprehension)):
+            over = node.iter
+            self.assertNotIsInstance(over, (ast.Set, ast.SetComp), name)
+            if isinstance(over, ast.Call) and isinstance(over.func, ast.Name):
+                self.assertNotEqual(over.func.id, "set", name)
+
+    def test_raised_by_the_name_of_an_error(self):
+        for name, node in nodes(ast.Raise):
+            if node.exc is not None:
+                self.assertIsInstance(node.exc, ast.Call, (name, node.lineno))
+                self.assertIsInstance(node.exc.func, ast.Name, (name, node.lineno))
+
+    def test_only_own_errors_are_caught(self):
+        caught = set()
+        for name, node in nodes(ast.ExceptHandler):
+            kinds = node.type.elts if isinstance(node.type, ast.Tuple) else [node.type]
+            caught |= {kind.id for kind in kinds}
+        self.assertLessEqual(caught, top_names(PACKAGE / "errors.py"))
+
+    def test_double_methods_assign_nothing(self):
+        for name, node in nodes(ast.FunctionDef):
+            if node.name in ("__eq__", "__repr__", "__str__", "__len__"):
+                rows = [row for row in ast.walk(node) if isinstance(row, (ast.Assign, ast.AugAssign, ast.Delete))]
+                self.assertEqual(rows, [], (name, node.lineno))
 
     def test_no_name_is_a_method_and_an_attribute(self):
         methods = {row.name for node in classes() for row in node.body if isinstance(row, ast.FunctionDef)}
