@@ -65,13 +65,21 @@ def answering(board, story):
     return lots
 
 
+def next_lot(board, story, fitting, lots):
+    """Tell the lot forth that comes behind these, by the lots that answer the triples of each beat."""
+    beat = len(lots)
+    if beat == 0:
+        return meet(story[0], fitting[0])
+    return meet(step(board, story[1][beat - 1], lots[-1]), fitting[beat])
+
+
 def forth(board, story):
     """Tell for each beat where a walk can be that answers all triples up to this beat."""
     look_story(board, story)
     fitting = answering(board, story)
-    lots = [meet(story[0], fitting[0])]
-    for pace, fit in zip(story[1], fitting[1:]):
-        lots.append(meet(step(board, pace, lots[-1]), fit))
+    lots = []
+    while len(lots) <= last_beat(story):
+        lots.append(next_lot(board, story, fitting, lots))
     return lots
 
 

@@ -31,6 +31,8 @@ SIGNATURES = {
         "book_holds": "(game, lot, rows, *, turn=0)", "answerer_holds": "(game, lot, beats, rows, *, turn=0)",
         "follow": "(game, lot, rows, answers, *, turn=0)",
     },
+    "deeds": {"deed_text": "(deed)", "read_deed": "(text)"},
+    "pages": {"page": "(post)", "read_page": "(text)"},
 }
 CLASSES = {
     ("boards", "Board"): {
@@ -52,6 +54,17 @@ CLASSES = {
         "alike": "(self, hand, beat, world)", "so": "(self, beat, world, saying)",
         "other": "(self, hand, beat, world, saying)", "__len__": "(self)",
     },
+    ("posts", "Post"): {
+        "__init__": "(self, board)", "do": "(self, deed)", "batch": "(self, deeds)",
+        "put": "(self, name, lot, *, pace=None)", "look": "(self, name, look, *, answer=1)",
+        "late": "(self, name, beat, look, *, answer=1)", "wish": "(self, question, name, *, most=1)",
+        "go": "(self, *, beats=1)", "undo": "(self)", "redo": "(self)", "board": "(self)", "now": "(self)",
+        "things": "(self)", "begun": "(self, name)", "story": "(self, name)", "forth": "(self, name)",
+        "known": "(self, name)", "walk": "(self, name)", "kept": "(self, name)", "made": "(self)", "looks": "(self)",
+        "wishes": "(self)", "answer": "(self, question)", "notes": "(self)", "deeds": "(self)", "undone": "(self)",
+        "twin": "(self)", "__eq__": "(self, other)", "__len__": "(self)", "__repr__": "(self)",
+    },
+    ("desk", "Desk"): {"__init__": "(self, board)", "say": "(self, line)", "post": "(self)"},
 }
 VALUES = {
     "boards": {"MOST_PLACES": 8},
@@ -59,6 +72,7 @@ VALUES = {
     "wrongs": {"MOST_SEEN": 24},
     "games": {"MOST_GAME": 20},
     "worlds": {"MOST_WORLDS": 3000},
+    "posts": {"MOST_THINGS": 6, "MOST_WISHES": 6, "MOST_LOOKS": 24},
 }
 
 
