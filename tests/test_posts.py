@@ -264,6 +264,14 @@ class Looks(Refused):
                     self.refused(post, ("look", "slow", look, answer), BadAnswer)
                     self.refused(post, ("late", "still", 0, look, answer), BadAnswer)
 
+    def test_true_is_no_number(self):
+        post = line_post()
+        post.look("still", ("in", (0, 1)))
+        self.refused(post, ("look", "still", ("in", (0,)), True), BadAnswer)
+        self.refused(post, ("late", "still", False, ("in", (0,)), 1), BadBeat, beat=False)
+        self.refused(post, ("wrong", False), NoLook, number=False)
+        self.refused(post, ("wish", "q", "still", True), BadWish, most=True)
+
     def test_no_room_again_for_looks(self):
         self.assertEqual(MOST_LOOKS, 24)
         post = line_post()

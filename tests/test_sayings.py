@@ -193,6 +193,10 @@ class NoSayings(unittest.TestCase):
                     self.refused(("not", seven))
         self.refused(deepened(("answer", 0, 1), ("not",) * 60, 2))
 
+    def test_true_is_no_number(self):
+        for saying in (("answer", False, 1), ("answer", 0, True), ("heard", True, 0), ("sure", False, (0,)), ("sure", 0, (True,))):
+            self.refused(saying)
+
     def test_answers_that_no_place_gives_are_let(self):
         for number in (-1, 2, 9) + FAR_NUMBERS:
             self.assertFalse(self.worlds.so(1, self.world, ("answer", 0, number)))

@@ -23,7 +23,7 @@ def no_delays():
         good = chance_delays(random.Random(many), many)
         for hand, other in itertools.product(range(many), range(many)):
             for delay in (-1, 0, 1, 10, 11) + FAR_NUMBERS:
-                if (delay == 0) != (hand == other) and not (hand != other and 1 <= delay <= 9):
+                if delay != 0 if hand == other else not 1 <= delay <= 9:
                     row = good[hand][:other] + (delay,) + good[hand][other + 1:]
                     bad.append(good[:hand] + (row,) + good[hand + 1:])
         bad.append(good + good[:1])
